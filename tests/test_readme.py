@@ -1,0 +1,18 @@
+"""Runs the examples of README.md, among them those of the document."""
+
+import doctest
+import pathlib
+import unittest
+
+README = pathlib.Path(__file__).parent.parent / "README.md"
+
+
+class Readme(unittest.TestCase):
+    def test_examples(self):
+        found = doctest.testfile(str(README), module_relative=False)
+        self.assertGreater(found.attempted, 10)
+        self.assertEqual(found.failed, 0)
+
+
+if __name__ == "__main__":
+    unittest.main()
