@@ -1,7 +1,7 @@
 """Checks of arguments that several files share, each in the order of the document."""
 
-from samerun.errors import BadKinds, BadWorlds
-from samerun.schemes import check_scheme, is_kinds_of, is_world
+from samerun.errors import BadKinds, BadNotes, BadNumber, BadWorlds
+from samerun.schemes import check_scheme, is_kinds_of, is_number, is_world
 
 LONGEST_RUN = 200
 
@@ -20,3 +20,36 @@ def check_kinds(scheme, kinds):
     """Raise BadKinds if an argument is not a set of kinds that can happen."""
     if not is_kinds_of(scheme.kinds, kinds):
         raise BadKinds("this is not a set of kinds that can happen")
+
+
+def check_number(many):
+    """Raise BadNumber if an argument is not a number of steps that a run can have."""
+    if not is_number(many, 0, LONGEST_RUN):
+        raise BadNumber("this is not a number of steps")
+
+
+def check_notes(scheme, many, notes):
+    """Raise BadNotes if an argument is not notes of a run of the scheme with so many steps."""
+    if not isinstance(notes, dict):
+        raise BadNotes("notes are a dict")
+    for step, pairs in notes.items():
+        if not is_number(step, 0, many - 1) or not are_pairs(scheme, pairs):
+            raise BadNotes("these are not notes of such a run")
+
+
+def are_pairs(scheme, value):
+    """Return whether a value is what can be noted of one step: one or more pairs, in the order of the kinds."""
+    if not isinstance(value, tuple) or len(value) == 0:
+        return False
+    if not all([isinstance(item, tuple) and len(item) == 2 for item in value]):
+        return False
+    if not is_kinds_of(scheme.kinds, tuple([kind for kind, _ in value])):
+        return False
+    return all([is_loud(kind, part) for kind, part in value])
+
+
+def is_loud(kind, part):
+    """Return whether a value is a part of this kind that is not quiet."""
+    if kind in ("rings", "alarms", "ticks"):
+        return isinstance(part, bool) and part
+    return is_number(part, 1, 2)

@@ -1,6 +1,7 @@
 """What a run shows, its notes, and what a player shows that has nothing but these notes."""
 
 from samerun.checks import check_kinds, check_run
+from samerun.likeness import alike
 from samerun.schemes import ALL_KINDS, QUIET
 from samerun.stepping import beginning, stepped
 
@@ -33,13 +34,7 @@ class Parts:
     def __eq__(self, other):
         if not isinstance(other, Parts):
             return False
-        mine = (self.index, self.there, self.here)
-        return told_apart(mine) == told_apart((other.index, other.there, other.here))
-
-
-def told_apart(values):
-    """Return values such that a boolean does not equal an integer."""
-    return [(isinstance(value, bool), value) for value in values]
+        return alike((self.index, self.there, self.here), (other.index, other.there, other.here))
 
 
 def shown(scheme, worlds):
@@ -93,11 +88,24 @@ def noted_world(pairs):
     return tuple([parts.get(kind, quiet) for kind, quiet in zip(ALL_KINDS, QUIET)])
 
 
+def quieted(world, kinds):
+    """Return the world that has the parts of these kinds and is quiet otherwise."""
+    return tuple([part if kind in kinds else quiet for kind, part, quiet in zip(ALL_KINDS, world, QUIET)])
+
+
 def compare(scheme, worlds, kinds):
     """Return Same if a run is played the same with a set of kinds, otherwise where they part."""
     there = shown(scheme, worlds)
-    here = played(scheme, worlds, kinds)
-    for index, (run, player) in enumerate(zip(there, here)):
-        if run != player:
-            return Parts(index, run, player)
-    return Same()
+    check_kinds(scheme, kinds)
+    found = parted(scheme, there, [quieted(world, kinds) for world in worlds])
+    return Same() if found is None else found
+
+
+def parted(scheme, there, worlds):
+    """Return the Parts for the first step at which a player with these worlds shows what is not there, or None."""
+    state = beginning(scheme)
+    for index, world in enumerate(worlds):
+        state, here = stepped(scheme, state, world)
+        if here != there[index]:
+            return Parts(index, there[index], here)
+    return None

@@ -16,7 +16,11 @@ def beginning(scheme):
 
 def stepped(scheme, state, world):
     """Return the state after a step with a world, and what this step shows."""
-    ready = before_instruction(scheme, state, world)
+    return instructed(scheme, before_instruction(scheme, state, world), world)
+
+
+def instructed(scheme, ready, world):
+    """Return the state after the instruction of a step, and what it shows, from the state right ahead of it."""
     threads, current, handler, cells, clock, words, lost, heard, pending = ready
     code, place, hand = turn(scheme, ready)
     instruction = code[place]

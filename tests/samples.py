@@ -60,6 +60,25 @@ def some_code(source, least, most):
     return tuple(found)
 
 
+# Threads and handlers that show a number of one source each, so that numbers are often the same by chance.
+TELLING = [
+    "call; show", "time; show", "take; show", "count; show", "load 0; show", "set 1; show", "set 0; show", "show",
+    "first 0; load 0; show",
+]
+WRITING = ["call; save 0", "time; save 0", "first 0", ""]
+
+
+def telling_scheme(source, kinds):
+    """Return a scheme of these kinds that shows much; a random source picks it."""
+    threads = [source.choice(TELLING) for _ in range(source.randint(2, 3))]
+    return scheme_of(*threads, handler=source.choice(TELLING + WRITING), kinds=kinds)
+
+
+def some_kinds(source, least, most):
+    """Return a set of kinds that a random source picks."""
+    return tuple(sorted(source.sample(ALL_KINDS, source.randint(least, most)), key=ALL_KINDS.index))
+
+
 def some_scheme(source):
     """Return a scheme that a random source picks."""
     threads = tuple(some_code(source, 1, 5) for _ in range(source.randint(1, 3)))

@@ -111,6 +111,44 @@ class Language(unittest.TestCase):
                 text = ast.unparse(decorator)
                 self.assertTrue(text in DECORATORS or text == node.name + ".setter", (name, text))
 
+    def test_no_attribute_is_assigned_that_is_a_property_somewhere(self):
+        properties = [node.name for _, node in nodes(ast.FunctionDef) if node.decorator_list]
+        stored = [node for _, node in nodes(ast.Attribute) if isinstance(node.ctx, ast.Store)]
+        self.assertEqual([node.attr for node in stored if node.attr in properties], [])
+
+    def test_products_are_called_and_iterated_at_once(self):
+        words = ["product", "combinations"]
+        for name, tree in trees():
+            walked = list(ast.walk(tree))
+            calls = [node for node in walked if isinstance(node, ast.Call) and isinstance(node.func, ast.Name)]
+            heads = [node.iter for node in walked if isinstance(node, (ast.For, ast.comprehension))]
+            heads += [node.args[0] for node in calls if node.func.id in ["list", "tuple", "sorted"]]
+            products = [node for node in calls if node.func.id in words]
+            named = [node for node in walked if isinstance(node, ast.Name) and node.id in words]
+            self.assertEqual(len(named), len(products), name)
+            self.assertEqual([node.lineno for node in products if node not in heads], [], name)
+
+    def test_listed_classes_and_functions_are_defined_in_their_files(self):
+        listed = {
+            "deciding": ["decide", "is_enough", "Always", "Sometimes"],
+            "choosing": ["matter", "Matter", "enough_sets", "least_sets", "needed", "harms", "smallest", "Smallest"],
+            "thinning": ["single_notes", "enough_choices", "needed_notes", "fewest", "parting", "Fewest"],
+            "players": ["Player", "costs", "best_spacing"],
+            "playing": ["shown", "notes", "size", "played", "compare", "Same", "Parts"],
+            "machines": ["Machine", "machine_at"], "schemes": ["Scheme", "is_world"],
+        }
+        methods = {"Always": ["shows"], "Sometimes": ["shows"], "Matter": ["shows"], "Smallest": ["shows"],
+                   "Fewest": ["shows"], "Same": ["shows"], "Parts": ["shows"], "Machine": ["step", "next", "copy"],
+                   "Player": ["go", "at", "marks", "total", "state", "shown"]}
+        files = dict(trees())
+        for name, words in listed.items():
+            defined = {node.name: node for node in files[name + ".py"].body
+                       if isinstance(node, (ast.FunctionDef, ast.ClassDef))}
+            for word in words:
+                self.assertIn(word, defined)
+                own = [node.name for node in defined[word].body if isinstance(node, ast.FunctionDef)]
+                self.assertLessEqual(set(methods.get(word, [])), set(own), word)
+
     def test_the_module_level(self):
         allowed = (ast.ImportFrom, ast.FunctionDef, ast.ClassDef, ast.Assign)
         for name, tree in trees():
