@@ -1,6 +1,6 @@
 """Checks of arguments that several files share, each in the order of the document."""
 
-from samerun.errors import BadKinds, BadNotes, BadNumber, BadWorlds
+from samerun.errors import BadKinds, BadNotes, BadNumber, BadStep, BadWorlds
 from samerun.schemes import check_scheme, is_kinds_of, is_number, is_world
 
 LONGEST_RUN = 200
@@ -9,7 +9,12 @@ LONGEST_RUN = 200
 def check_run(scheme, worlds):
     """Raise BadScheme, or BadWorlds if an argument is not the worlds of a run of the scheme."""
     check_scheme(scheme)
-    if not isinstance(worlds, (list, tuple)) or len(worlds) > LONGEST_RUN:
+    check_worlds(scheme, worlds, LONGEST_RUN)
+
+
+def check_worlds(scheme, worlds, most):
+    """Raise BadWorlds if an argument is not a list or tuple of worlds of the scheme, not more than most."""
+    if not isinstance(worlds, (list, tuple)) or len(worlds) > most:
         raise BadWorlds(None)
     for index, world in enumerate(worlds):
         if not is_world(scheme, world):
@@ -26,6 +31,12 @@ def check_number(many):
     """Raise BadNumber if an argument is not a number of steps that a run can have."""
     if not is_number(many, 0, LONGEST_RUN):
         raise BadNumber("this is not a number of steps")
+
+
+def check_step(step, last):
+    """Raise BadStep if an argument is not a step up to the last one."""
+    if not is_number(step, 0, last):
+        raise BadStep("this is not a step of the run")
 
 
 def check_notes(scheme, many, notes):

@@ -1,6 +1,6 @@
 """Players that go forwards and backwards, with marks that keep states, and what they cost."""
 
-from samerun.checks import check_notes, check_number
+from samerun.checks import check_notes, check_number, check_step
 from samerun.errors import BadMarks, BadStep
 from samerun.playing import noted_world
 from samerun.schemes import check_scheme, is_number
@@ -58,8 +58,7 @@ class Player:
 
     def go(self, step):
         """Go to a step, and return how many steps this takes."""
-        if not is_number(step, 0, self._many):
-            raise BadStep("this is not a step of the run")
+        check_step(step, self._many)
         start = start_of(self.marks, self._at, step)
         if start != self._at:
             self._state = self._kept[start]
@@ -120,8 +119,8 @@ def check_goals(many, goals):
     """Raise BadStep if an argument is not some steps of a run with so many steps."""
     if not isinstance(goals, (list, tuple)) or len(goals) > MOST_GOALS:
         raise BadStep("these are not steps to go to")
-    if not all([is_number(goal, 0, many) for goal in goals]):
-        raise BadStep("this is not a step of the run")
+    for goal in goals:
+        check_step(goal, many)
 
 
 def costs_of(many, goals, spacing, room):

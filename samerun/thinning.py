@@ -24,9 +24,10 @@ class Fewest:
         single = few_notes(scheme, worlds)
         trials = tried_choices(scheme, worlds, single)
         enough = [choice for choice, parts in trials if parts is None]
-        if self.chosen not in enough or len(self.chosen) != len(enough[0]):
+        length = len(enough[0])
+        if not any([alike(self.chosen, choice) for choice in enough if len(choice) == length]):
             return False
-        return alike(self.doubts, shorter_doubts(trials, len(enough[0])))
+        return alike(self.doubts, shorter_doubts(trials, length))
 
     def __eq__(self, other):
         if not isinstance(other, Fewest):

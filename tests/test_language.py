@@ -89,7 +89,8 @@ class Language(unittest.TestCase):
 
     def test_builtins(self):
         for name, node in nodes(ast.Name):
-            if hasattr(builtins, node.id):
+            # Python's prompt, and so the test of README.md, puts `_` among the builtins.
+            if node.id != "_" and hasattr(builtins, node.id):
                 self.assertIn(node.id, BUILTINS, (name, node.lineno))
                 self.assertIsInstance(node.ctx, ast.Load)
 
@@ -134,12 +135,18 @@ class Language(unittest.TestCase):
             "choosing": ["matter", "Matter", "enough_sets", "least_sets", "needed", "harms", "smallest", "Smallest"],
             "thinning": ["single_notes", "enough_choices", "needed_notes", "fewest", "parting", "Fewest"],
             "players": ["Player", "costs", "best_spacing"],
+            "past": ["writer", "first_shown", "origin", "matters"], "sessions": ["Session"],
+            "texts": ["scheme_text", "worlds_text", "notes_text", "read_scheme", "read_worlds", "read_notes"],
+            "digits": ["encode", "decode"],
             "playing": ["shown", "notes", "size", "played", "compare", "Same", "Parts"],
             "machines": ["Machine", "machine_at"], "schemes": ["Scheme", "is_world"],
         }
         methods = {"Always": ["shows"], "Sometimes": ["shows"], "Matter": ["shows"], "Smallest": ["shows"],
                    "Fewest": ["shows"], "Same": ["shows"], "Parts": ["shows"], "Machine": ["step", "next", "copy"],
-                   "Player": ["go", "at", "marks", "total", "state", "shown"]}
+                   "Player": ["go", "at", "marks", "total", "state", "shown"],
+                   "Session": ["step", "journal", "notes", "apart", "__len__", "machines", "undo", "branch", "trial",
+                               "tried"],
+                   "Scheme": ["threads", "handler", "kinds"]}
         files = dict(trees())
         for name, words in listed.items():
             defined = {node.name: node for node in files[name + ".py"].body
@@ -148,6 +155,37 @@ class Language(unittest.TestCase):
                 self.assertIn(word, defined)
                 own = [node.name for node in defined[word].body if isinstance(node, ast.FunctionDef)]
                 self.assertLessEqual(set(methods.get(word, [])), set(own), word)
+
+    def test_exits_only_assign_attributes(self):
+        exits = [node for _, node in nodes(ast.FunctionDef) if node.name == "__exit__"]
+        self.assertEqual(len(exits), 1)
+        for node in exits:
+            rows = node.body[1:] if ast.get_docstring(node) else node.body
+            self.assertEqual(ast.unparse(rows[0]), "session = self._session")
+            for row in rows[1:]:
+                self.assertRegex(ast.unparse(row), r"^session\.[a-z_]+ = self\.[a-z_]+$")
+
+    def test_sets_stand_where_they_may(self):
+        # Here a set stands only in `sorted`.
+        for name, tree in trees():
+            walked = list(ast.walk(tree))
+            calls = [node for node in walked if isinstance(node, ast.Call) and isinstance(node.func, ast.Name)]
+            allowed = [node.args[0] for node in calls if node.func.id == "sorted"]
+            sets = [node for node in walked if isinstance(node, (ast.Set, ast.SetComp))]
+            sets += [node for node in calls if node.func.id == "set"]
+            self.assertEqual([node.lineno for node in sets if node not in allowed], [], name)
+
+    def test_no_two_files_import_each_other(self):
+        needs = {}
+        for name, tree in trees():
+            modules = [node.module for node in tree.body if isinstance(node, ast.ImportFrom)]
+            needs[name[:-3]] = [each.split(".")[1] for each in modules if each.startswith("samerun.")]
+        left = dict(needs)
+        while left:
+            free = [name for name, others in left.items() if not any(each in left for each in others)]
+            self.assertNotEqual(free, [], sorted(left))
+            for name in free:
+                del left[name]
 
     def test_the_module_level(self):
         allowed = (ast.ImportFrom, ast.FunctionDef, ast.ClassDef, ast.Assign)
